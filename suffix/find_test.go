@@ -8,6 +8,7 @@ import (
 	"testing"
 
 	"inlay/api"
+	"inlay/sample"
 	"inlay/suffix"
 )
 
@@ -55,9 +56,9 @@ func TestLongest(t *testing.T) {
 // P4.1 (D2), P4.3: all short texts in all short texts.
 func TestLongestOfShortTexts(t *testing.T) {
 	check := func(n int, of string) {
-		eachText(n, of, func(b []byte) {
+		sample.EachText(n, of, func(b []byte) {
 			order := orderOf(b)
-			eachText(n-1, of, func(s []byte) {
+			sample.EachText(n-1, of, func(s []byte) {
 				if got := suffix.Longest(b, order, s); got != longestOf(b, s) {
 					t.Fatalf("Longest(%q, %q) = %v, want %v", b, s, got, longestOf(b, s))
 				}
@@ -102,7 +103,7 @@ func TestPartsAreFound(t *testing.T) {
 			}
 		}
 	}
-	eachText(7, "ab", check)
+	sample.EachText(7, "ab", check)
 	for _, b := range textsOf(90) {
 		check(b)
 	}
@@ -163,8 +164,8 @@ func TestCommonIsWhatTheChapterSays(t *testing.T) {
 			t.Fatalf("Common(%q) = %v, want %v", b, got, commonOf(b))
 		}
 	}
-	eachText(10, "ab", check)
-	eachText(6, "\x00a\xff", check)
+	sample.EachText(10, "ab", check)
+	sample.EachText(6, "\x00a\xff", check)
 	for n := range 140 {
 		for _, b := range textsOf(n) {
 			check(b)
@@ -187,8 +188,8 @@ func TestAnyTwoSuffixes(t *testing.T) {
 			}
 		}
 	}
-	eachText(9, "ab", check)
-	eachText(5, "\x00a\xff", check)
+	sample.EachText(9, "ab", check)
+	sample.EachText(5, "\x00a\xff", check)
 	for _, b := range textsOf(120) {
 		check(b)
 	}

@@ -53,21 +53,6 @@ func commonOf(b []byte) []int {
 	return l
 }
 
-// eachText calls f with all texts of up to n bytes of these ones.
-func eachText(n int, of string, f func(b []byte)) {
-	var extend func(b []byte)
-	extend = func(b []byte) {
-		f(b)
-		if len(b) == n {
-			return
-		}
-		for i := range len(of) {
-			extend(append(bytes.Clone(b), of[i]))
-		}
-	}
-	extend(nil)
-}
-
 // someText returns n bytes, each one of kinds different ones.
 func someText(r *rand.Rand, n, kinds int) []byte {
 	first := r.IntN(257 - kinds)

@@ -8,6 +8,7 @@ import (
 	"testing"
 
 	"inlay/api"
+	"inlay/sample"
 	"inlay/suffix"
 )
 
@@ -48,9 +49,9 @@ func TestOrderOfShortTexts(t *testing.T) {
 			t.Fatalf("Order(%q) = %v, want %v", b, got, orderOf(b))
 		}
 	}
-	eachText(12, "ab", check)
-	eachText(7, "\x00a\xff", check)
-	eachText(5, "\x00\x7f\x80\xff", check)
+	sample.EachText(12, "ab", check)
+	sample.EachText(7, "\x00a\xff", check)
+	sample.EachText(5, "\x00\x7f\x80\xff", check)
 }
 
 // P4.1 (D1), P4.2: each length up to some, so that beginnings are longer, as long and shorter than texts.
@@ -116,8 +117,8 @@ func TestAByteAtTheEnd(t *testing.T) {
 			}
 		}
 	}
-	eachText(9, "ab", check)
-	eachText(5, "\x01\x80\xff", check)
+	sample.EachText(9, "ab", check)
+	sample.EachText(5, "\x01\x80\xff", check)
 	for n := range 40 {
 		for _, b := range textsOf(8 * n) {
 			for i := range b {
