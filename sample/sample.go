@@ -1,7 +1,11 @@
 // Package sample makes inputs for the tests of the packages, which share it. The program does not use it.
 package sample
 
-import "bytes"
+import (
+	"bytes"
+
+	"inlay/api"
+)
 
 // EachText calls f with all texts of up to n bytes, each of which is one of those of the string. They are new memory.
 func EachText(n int, of string, f func(b []byte)) {
@@ -16,4 +20,42 @@ func EachText(n int, of string, f func(b []byte)) {
 		}
 	}
 	extend(nil)
+}
+
+// Text returns n bytes, each of which is one of those of the string: choose(k) returns a number from 0 to k - 1.
+func Text(choose func(k int) int, n int, of string) []byte {
+	b := make([]byte, n)
+	for i := range b {
+		b[i] = of[choose(len(of))]
+	}
+	return b
+}
+
+// Patch returns a right patch with Lifted false, for inputs and outputs of some numbers of bytes within the limits.
+// It has operations of all kinds, not always in the cheapest form: choose(k) returns a number from 0 to k - 1.
+func Patch(choose func(k int) int, in, out int) api.Patch {
+	p := api.Patch{In: in, Out: out}
+	longest := 6 + out/1024 // so that there are few enough operations, but many of a short output
+	for left := out; left > 0; {
+		o := op(choose, in, 1+choose(min(left, longest)))
+		p.Ops = append(p.Ops, o)
+		left -= o.Len
+	}
+	return p
+}
+
+// op returns a right operation of n bytes for inputs of in bytes.
+func op(choose func(k int) int, in, n int) api.Op {
+	o := api.Op{Kind: api.Run + choose(2), Len: n}
+	if n <= in && choose(2) == 0 {
+		o.Kind = api.Copy + choose(2)
+		o.From = choose(in - n + 1)
+	}
+	switch o.Kind {
+	case api.Run:
+		o.B = byte(choose(256))
+	case api.Diff, api.Lit:
+		o.Data = Text(choose, n, "\x00\x00\x01\x07\xff")
+	}
+	return o
 }

@@ -1,9 +1,13 @@
 package sample_test
 
 import (
+	"bytes"
+	"math/rand/v2"
 	"slices"
 	"testing"
 
+	"inlay/api"
+	"inlay/patch"
 	"inlay/sample"
 )
 
@@ -28,5 +32,39 @@ func TestEachText(t *testing.T) {
 		if len(seen) != c.want || calls != c.want {
 			t.Errorf("%d, %q: %d texts in %d calls, want %d", c.n, c.of, len(seen), calls, c.want)
 		}
+	}
+}
+
+func TestText(t *testing.T) {
+	r := rand.New(rand.NewPCG(0, 1))
+	for n := range 100 {
+		b := sample.Text(r.IntN, n, "a\xff")
+		if len(b) != n || bytes.Count(b, []byte("a"))+bytes.Count(b, []byte{255}) != n {
+			t.Errorf("%d bytes: %q", n, b)
+		}
+	}
+	if b := sample.Text(r.IntN, 100, "a\xff"); !bytes.Contains(b, []byte("a\xff")) {
+		t.Errorf("100 bytes: %q", b)
+	}
+}
+
+func TestPatch(t *testing.T) {
+	r := rand.New(rand.NewPCG(0, 2))
+	seen := map[int]bool{}
+	for _, in := range []int{0, 1, 2, 10, api.MaxImage} {
+		for _, out := range []int{0, 1, 5, 6, 7, 300, 5000, api.MaxImage} {
+			for range 5 {
+				p := sample.Patch(r.IntN, in, out)
+				if n, e := patch.Check(p); e != api.OK || p.In != in || p.Out != out || p.Lifted {
+					t.Fatalf("%d and %d bytes: not right at %d: %v", in, out, n, p)
+				}
+				for _, o := range p.Ops {
+					seen[o.Kind] = true
+				}
+			}
+		}
+	}
+	if len(seen) != 4 {
+		t.Errorf("the kinds are %v", seen)
 	}
 }
