@@ -109,23 +109,6 @@ func TestApply(t *testing.T) {
 	}
 }
 
-// code returns n words of code, many of which have targets inside.
-func code(r *rand.Rand, n int) []byte {
-	var b []byte
-	for i := range n {
-		distance := r.IntN(n) - i
-		switch r.IntN(4) {
-		case 0:
-			b = append(b, 5, byte(distance>>16), byte(distance>>8), byte(distance))
-		case 1:
-			b = append(b, 7, byte(r.IntN(16)), byte(distance>>8), byte(distance))
-		default:
-			b = append(b, 1, byte(r.IntN(16)), byte(r.IntN(16)), byte(r.IntN(16)))
-		}
-	}
-	return b
-}
-
 // formOf returns the lifted form of code, as bytes.
 func formOf(t *testing.T, b []byte) []byte {
 	t.Helper()
@@ -140,7 +123,7 @@ func formOf(t *testing.T, b []byte) []byte {
 func TestLiftedWhole(t *testing.T) {
 	r := rand.New(rand.NewPCG(6, 2))
 	for _, n := range []int{0, 1, 2, 3, 8, 9, 100, 1000, 9000} {
-		b := code(r, n)
+		b := sample.Code(r.IntN, n)
 		p := patch.Whole(len(formOf(t, b)))
 		p.Lifted = true
 		if got := mustApply(t, b, p); !bytes.Equal(got, b) {
@@ -161,7 +144,7 @@ func TestLiftedWhole(t *testing.T) {
 func TestLiftedPatches(t *testing.T) {
 	r := rand.New(rand.NewPCG(6, 3))
 	for range 300 {
-		old, other := code(r, r.IntN(20)), code(r, r.IntN(20))
+		old, other := sample.Code(r.IntN, r.IntN(20)), sample.Code(r.IntN, r.IntN(20))
 		from, to := formOf(t, old), formOf(t, other)
 		p := api.Patch{Lifted: true, In: len(from), Out: len(to), Ops: []api.Op{{Kind: api.Lit, Len: len(to), Data: to}}}
 		if got := mustApply(t, old, p); !bytes.Equal(got, other) {
@@ -193,7 +176,7 @@ func TestLiftedOutputs(t *testing.T) {
 	r := rand.New(rand.NewPCG(6, 4))
 	errors := map[api.Errno]int{}
 	for range 300 {
-		old := code(r, 1+r.IntN(12))
+		old := sample.Code(r.IntN, 1+r.IntN(12))
 		n := len(formOf(t, old))
 		for i := range n {
 			d := make([]byte, n)
@@ -249,7 +232,7 @@ func TestErrorsOfApply(t *testing.T) {
 
 // F7, P2: with lifted code too.
 func TestApplyModifiesNothing(t *testing.T) {
-	b := code(rand.New(rand.NewPCG(6, 5)), 30)
+	b := sample.Code(rand.New(rand.NewPCG(6, 5)).IntN, 30)
 	p := patch.Whole(len(formOf(t, b)))
 	p.Lifted = true
 	before := bytes.Clone(b)

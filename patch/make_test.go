@@ -7,6 +7,7 @@ import (
 
 	"inlay/api"
 	"inlay/patch"
+	"inlay/sample"
 )
 
 // compareOf compares Of with the reference, and looks at what it makes.
@@ -14,12 +15,12 @@ func compareOf(t *testing.T, l []api.Symbol, in int) {
 	t.Helper()
 	p, e := patch.Of(l, in)
 	if in < 0 || in > 65536 || slices.ContainsFunc(l, func(s api.Symbol) bool { return !isRightSymbol(s, in) }) {
-		if e != api.ErrOp || !isEmpty(p) {
+		if e != api.ErrOp || !sample.Same(p, api.Patch{}) {
 			t.Fatalf("Of(%v, %d): %v, error %d, want ErrOp", l, in, p, e)
 		}
 		return
 	}
-	if want := piecesOf(l); e != api.OK || p.Lifted || p.In != in || p.Out != len(l) || !sameOps(p.Ops, want) {
+	if want := piecesOf(l); e != api.OK || p.Lifted || p.In != in || p.Out != len(l) || !sample.SameOps(p.Ops, want) {
 		t.Fatalf("Of(%v, %d): %v, error %d, want %v", l, in, p, e, want)
 	}
 	if _, e := patch.Check(p); e != api.OK {
@@ -131,7 +132,7 @@ func TestLimitsOfOf(t *testing.T) {
 		"a byte with such a place":                   {[]api.Symbol{{At: 1<<63 - 1}}, 65536, api.ErrOp, 0},
 	} {
 		p, e := patch.Of(c.l, c.in)
-		if e != c.want || len(p.Ops) != c.ops || e != api.OK && !isEmpty(p) {
+		if e != c.want || len(p.Ops) != c.ops || e != api.OK && !sample.Same(p, api.Patch{}) {
 			t.Errorf("%s: %d operations, error %d, want %d, error %d", what, len(p.Ops), e, c.ops, c.want)
 		}
 		if e == api.OK && (p.In != c.in || p.Out != len(c.l) || !slices.Equal(mustSymbols(t, p), c.l)) {
@@ -150,7 +151,7 @@ func TestOfModifiesNothing(t *testing.T) {
 		data := p.Ops[i].Data
 		clear(data[:cap(data)])
 		p.Ops[i] = want[i]
-		if !slices.Equal(l, before) || !sameOps(p.Ops, want) {
+		if !slices.Equal(l, before) || !sample.SameOps(p.Ops, want) {
 			t.Errorf("with the data of the operation %d changed: %v of %v, want %v", i, p.Ops, l, want)
 		}
 	}

@@ -8,6 +8,7 @@ import (
 
 	"inlay/api"
 	"inlay/patch"
+	"inlay/sample"
 )
 
 // P6.1 (F1, F2), P6.2: the examples of the chapter.
@@ -230,7 +231,7 @@ func TestWhole(t *testing.T) {
 		if n == 0 {
 			want = nil
 		}
-		if p.Lifted || p.In != n || p.Out != n || !sameOps(p.Ops, want) {
+		if p.Lifted || p.In != n || p.Out != n || !sample.SameOps(p.Ops, want) {
 			t.Errorf("Whole(%d) = %v", n, p)
 		}
 		if got := patch.Cost(p); got != 4*len(want) {
@@ -262,7 +263,7 @@ func TestPatchesStay(t *testing.T) {
 		patch.Cost(p)
 		clear(mustSymbols(t, p))
 		clear(mustApply(t, old, p))
-		if !sameOps(p.Ops, before.Ops) || !bytes.Equal(old, inputOf(p.In)) {
+		if !sample.SameOps(p.Ops, before.Ops) || !bytes.Equal(old, inputOf(p.In)) {
 			t.Fatalf("%v: the arguments have changed", before)
 		}
 		if !slices.Equal(l, mustSymbols(t, p)) || !bytes.Equal(b, mustApply(t, old, p)) {

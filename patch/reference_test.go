@@ -252,18 +252,6 @@ func inputOf(n int) []byte {
 	return b
 }
 
-// sameOps compares operations; nil and empty data are the same.
-func sameOps(a, b []api.Op) bool {
-	return slices.EqualFunc(a, b, func(o, q api.Op) bool {
-		return o.Kind == q.Kind && o.From == q.From && o.Len == q.Len && o.B == q.B && bytes.Equal(o.Data, q.Data)
-	})
-}
-
-// isEmpty reports whether p is what stands beside an error.
-func isEmpty(p api.Patch) bool {
-	return !p.Lifted && p.In == 0 && p.Out == 0 && len(p.Ops) == 0
-}
-
 // clone returns p with memory of its own.
 func clone(p api.Patch) api.Patch {
 	p.Ops = slices.Clone(p.Ops)

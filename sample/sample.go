@@ -3,6 +3,7 @@ package sample
 
 import (
 	"bytes"
+	"slices"
 
 	"inlay/api"
 )
@@ -58,4 +59,42 @@ func op(choose func(k int) int, in, n int) api.Op {
 		o.Data = Text(choose, n, "\x00\x00\x01\x07\xff")
 	}
 	return o
+}
+
+// Code returns code of n words. Some of them have targets, all of which are inside: choose(k) returns a number from 0
+// to k - 1.
+func Code(choose func(k int) int, n int) []byte {
+	var b []byte
+	for i := range n {
+		b = append(b, word(choose, i, n)...)
+	}
+	return b
+}
+
+// word returns the word i of code of n words.
+func word(choose func(k int) int, i, n int) []byte {
+	distance := choose(n) - i
+	register := byte(choose(16))
+	switch choose(8) {
+	case 0:
+		return []byte{byte(5 + choose(2)), byte(distance >> 16), byte(distance >> 8), byte(distance)}
+	case 1, 2:
+		return []byte{7, register, byte(distance >> 8), byte(distance)}
+	case 3:
+		distance = choose(n - i) // a pool is not before its word
+		return []byte{8, register, byte(distance >> 8), byte(distance)}
+	}
+	return []byte{byte(1 + choose(4)), register, byte(choose(16)), byte(choose(16))}
+}
+
+// Same compares patches; nil and empty lists are the same.
+func Same(p, q api.Patch) bool {
+	return p.Lifted == q.Lifted && p.In == q.In && p.Out == q.Out && SameOps(p.Ops, q.Ops)
+}
+
+// SameOps compares operations; nil and empty data are the same.
+func SameOps(a, b []api.Op) bool {
+	return slices.EqualFunc(a, b, func(o, q api.Op) bool {
+		return o.Kind == q.Kind && o.From == q.From && o.Len == q.Len && o.B == q.B && bytes.Equal(o.Data, q.Data)
+	})
 }

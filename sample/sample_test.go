@@ -7,6 +7,7 @@ import (
 	"testing"
 
 	"inlay/api"
+	"inlay/inst"
 	"inlay/patch"
 	"inlay/sample"
 )
@@ -66,5 +67,75 @@ func TestPatch(t *testing.T) {
 	}
 	if len(seen) != 4 {
 		t.Errorf("the kinds are %v", seen)
+	}
+}
+
+func TestCode(t *testing.T) {
+	r := rand.New(rand.NewPCG(0, 3))
+	seen := map[int]bool{}
+	for _, n := range []int{0, 1, 2, 3, 100, 1000, 16384} {
+		b := sample.Code(r.IntN, n)
+		words, e := inst.Words(b)
+		if e != api.OK || len(words) != n {
+			t.Fatalf("%d words: %x", n, b)
+		}
+		for i, w := range words {
+			x := inst.Decode(w, 4*i)
+			if x.Op == api.Data || x.Op >= api.Jump && (x.N < 0 || x.N >= 4*n) {
+				t.Fatalf("%d words: the word %d is %v", n, i, x)
+			}
+			seen[x.Op] = true
+		}
+	}
+	if len(seen) != 8 {
+		t.Errorf("the kinds are %v", seen)
+	}
+}
+
+func TestSame(t *testing.T) {
+	p := func() api.Patch {
+		return api.Patch{In: 9, Out: 4, Ops: []api.Op{{Kind: api.Copy, From: 1, Len: 2}, {Kind: api.Run, Len: 1, B: 3}, {Kind: api.Lit, Len: 1, Data: []byte{7}}}}
+	}
+	if q := p(); !sample.Same(p(), q) {
+		t.Error("equal patches are not the same")
+	}
+	if !sample.Same(api.Patch{Ops: []api.Op{{Data: []byte{}}}}, api.Patch{Ops: []api.Op{{}}}) || !sample.Same(api.Patch{Ops: []api.Op{}}, api.Patch{}) {
+		t.Error("nil and empty lists are not the same")
+	}
+	for i, change := range []func(q *api.Patch){
+		func(q *api.Patch) { q.Lifted = true },
+		func(q *api.Patch) { q.In++ },
+		func(q *api.Patch) { q.Out++ },
+		func(q *api.Patch) { q.Ops = q.Ops[:2] },
+		func(q *api.Patch) { q.Ops[0].Kind = api.Diff },
+		func(q *api.Patch) { q.Ops[0].From++ },
+		func(q *api.Patch) { q.Ops[0].Len++ },
+		func(q *api.Patch) { q.Ops[1].B++ },
+		func(q *api.Patch) { q.Ops[2].Data[0]++ },
+	} {
+		q := p()
+		if change(&q); sample.Same(p(), q) || sample.Same(q, p()) {
+			t.Errorf("the change %d is not seen", i)
+		}
+	}
+}
+
+func TestTexts(t *testing.T) {
+	r := rand.New(rand.NewPCG(0, 4))
+	for _, n := range []int{0, 1, 2, 36, 37, 38, 1000} {
+		for what, b := range sample.Texts(r.IntN, n) {
+			if len(b) != n {
+				t.Errorf("%s: %d bytes, want %d", what, len(b), n)
+			}
+		}
+	}
+	for _, kinds := range []int{1, 2, 3, 255, 256} {
+		seen := map[byte]bool{}
+		for _, b := range sample.Kinds(r.IntN, 10000, kinds) {
+			seen[b] = true
+		}
+		if len(seen) != kinds {
+			t.Errorf("%d kinds, want %d", len(seen), kinds)
+		}
 	}
 }

@@ -80,7 +80,7 @@ func TestLongestOfOtherTexts(t *testing.T) {
 				from := r.IntN(n)
 				s := bytes.Clone(b[from : from+1+r.IntN(n-from)])
 				s[r.IntN(len(s))] += byte(r.IntN(3))
-				for _, s := range [][]byte{s, append(s, b[r.IntN(n)]), someText(r, 5, 1+r.IntN(256))} {
+				for _, s := range [][]byte{s, append(s, b[r.IntN(n)]), sample.Kinds(r.IntN, 5, 1+r.IntN(256))} {
 					if got := suffix.Longest(b, order, s); got != longestOf(b, s) {
 						t.Fatalf("%s: Longest(%q, %q) = %v, want %v", what, b, s, got, longestOf(b, s))
 					}

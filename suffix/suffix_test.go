@@ -96,7 +96,7 @@ func TestOrderOfLongTexts(t *testing.T) {
 			checkOrder(t, what, b, suffix.Order(b))
 		}
 	}
-	b := someText(rand.New(rand.NewPCG(4, 2)), 1<<19, 3)
+	b := sample.Kinds(rand.New(rand.NewPCG(4, 2)).IntN, 1<<19, 3)
 	checkOrder(t, "a longer text", b, suffix.Order(b))
 }
 
