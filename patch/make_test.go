@@ -71,20 +71,12 @@ func TestOfTheSymbolsOfPatches(t *testing.T) {
 	})
 }
 
-// P6.1 (F5): places that grow and fall by some numbers, so that pieces begin and end in all ways.
+// P6.1 (F5), P6.3: pieces that begin and end in all ways.
 func TestOfLists(t *testing.T) {
 	r := rand.New(rand.NewPCG(6, 6))
 	for n := range 60 {
 		for range 20 {
-			l := make([]api.Symbol, n)
-			at := 20
-			for i := range l {
-				at = min(max(at+1+[]int{0, 0, 0, 0, 1, -1, -2}[r.IntN(7)], 0), 39)
-				l[i] = api.Symbol{Old: r.IntN(6) > 0, B: byte(max(0, r.IntN(6)-3))}
-				if l[i].Old {
-					l[i].At = at
-				}
-			}
+			l := sample.Symbols(r.IntN, n, 40)
 			compareOf(t, l, 40)
 			compareOf(t, l, 39)
 		}

@@ -257,7 +257,7 @@ func TestOtherArgumentsEnd(t *testing.T) {
 // P2 (F7): arguments stay as they are, and results are new.
 func TestPatchesStay(t *testing.T) {
 	eachRightPatch(func(p api.Patch) {
-		before, old := clone(p), inputOf(p.In)
+		before, old := sample.Clone(p), inputOf(p.In)
 		l, b := mustSymbols(t, p), mustApply(t, old, p)
 		patch.Check(p)
 		patch.Cost(p)

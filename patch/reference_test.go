@@ -252,15 +252,6 @@ func inputOf(n int) []byte {
 	return b
 }
 
-// clone returns p with memory of its own.
-func clone(p api.Patch) api.Patch {
-	p.Ops = slices.Clone(p.Ops)
-	for i := range p.Ops {
-		p.Ops[i].Data = slices.Clone(p.Ops[i].Data)
-	}
-	return p
-}
-
 // mustSymbols returns the symbols of p.
 func mustSymbols(t *testing.T, p api.Patch) []api.Symbol {
 	t.Helper()

@@ -61,6 +61,32 @@ func op(choose func(k int) int, in, n int) api.Op {
 	return o
 }
 
+// Symbols returns n right symbols for inputs of in bytes. Most of them go on as the ones before, so that operations of
+// all kinds and of many lengths suit them: choose(k) returns a number from 0 to k - 1.
+func Symbols(choose func(k int) int, n, in int) []api.Symbol {
+	var l []api.Symbol
+	change := 2 + choose(12) // how rarely something changes
+	at, old, b := 0, false, byte(0)
+	for range n {
+		if choose(change) == 0 {
+			old = !old
+		}
+		if choose(change) == 0 {
+			b = byte(max(0, choose(5)-2))
+		}
+		at++
+		if at >= in || choose(change) == 0 {
+			at = choose(max(in, 1))
+		}
+		s := api.Symbol{B: b}
+		if old && in > 0 {
+			s.Old, s.At = true, at
+		}
+		l = append(l, s)
+	}
+	return l
+}
+
 // Code returns code of n words. Some of them have targets, all of which are inside: choose(k) returns a number from 0
 // to k - 1.
 func Code(choose func(k int) int, n int) []byte {
@@ -85,6 +111,23 @@ func word(choose func(k int) int, i, n int) []byte {
 		return []byte{8, register, byte(distance >> 8), byte(distance)}
 	}
 	return []byte{byte(1 + choose(4)), register, byte(choose(16)), byte(choose(16))}
+}
+
+// Must returns v. A test that needs it cannot go on if there is an error.
+func Must[T any](v T, e api.Errno) T {
+	if e != api.OK {
+		panic(e)
+	}
+	return v
+}
+
+// Clone returns p with memory of its own.
+func Clone(p api.Patch) api.Patch {
+	p.Ops = slices.Clone(p.Ops)
+	for i := range p.Ops {
+		p.Ops[i].Data = bytes.Clone(p.Ops[i].Data)
+	}
+	return p
 }
 
 // Same compares patches; nil and empty lists are the same.

@@ -70,6 +70,50 @@ func TestPatch(t *testing.T) {
 	}
 }
 
+func TestSymbols(t *testing.T) {
+	r := rand.New(rand.NewPCG(0, 5))
+	longest := [5]int{}
+	for in := range 40 {
+		for n := range 120 {
+			l := sample.Symbols(r.IntN, n, in)
+			p, e := patch.Of(l, in)
+			if e != api.OK || len(l) != n {
+				t.Fatalf("%d and %d bytes: %v, error %d", in, n, l, e)
+			}
+			for _, o := range p.Ops {
+				longest[o.Kind] = max(longest[o.Kind], o.Len)
+			}
+		}
+	}
+	if min(longest[api.Copy], longest[api.Diff], longest[api.Lit]) < 20 {
+		t.Errorf("the longest operations of each kind have %v symbols", longest)
+	}
+}
+
+func TestMust(t *testing.T) {
+	if got := sample.Must(7, api.OK); got != 7 {
+		t.Errorf("%d, want 7", got)
+	}
+	defer func() {
+		if recover() != api.ErrArg {
+			t.Error("an error is not seen")
+		}
+	}()
+	sample.Must(7, api.ErrArg)
+}
+
+func TestClone(t *testing.T) {
+	p := api.Patch{Lifted: true, In: 9, Out: 3, Ops: []api.Op{{Kind: api.Run, Len: 1, B: 3}, {Kind: api.Lit, Len: 2, Data: []byte{7, 8}}}}
+	q := sample.Clone(p)
+	if !sample.Same(p, q) {
+		t.Errorf("%v, want %v", q, p)
+	}
+	q.Ops[0].B, q.Ops[1].Data[1] = 4, 9
+	if p.Ops[0].B != 3 || p.Ops[1].Data[1] != 8 {
+		t.Error("the memory is shared")
+	}
+}
+
 func TestCode(t *testing.T) {
 	r := rand.New(rand.NewPCG(0, 3))
 	seen := map[int]bool{}
