@@ -52,24 +52,6 @@ func TestFormOfPatches(t *testing.T) {
 	})
 }
 
-// anyOps returns operations that have the symbols l, cut at any places: choose(k) returns a number from 0 to k - 1.
-func anyOps(choose func(k int) int, l []api.Symbol) []api.Op {
-	var ops []api.Op
-	for len(l) > 0 {
-		possible := operationsOf(l[:1])
-		for n := 2; n <= len(l); n++ {
-			more := operationsOf(l[:n])
-			if len(more) == 0 {
-				break
-			}
-			possible = append(possible, more...)
-		}
-		o := possible[choose(len(possible))]
-		ops, l = append(ops, o), l[o.Len:]
-	}
-	return ops
-}
-
 // P8.2, P8.3, P8.4: all patches with the same symbols have the form that Cheapest has, and none costs less.
 func TestOneForm(t *testing.T) {
 	r := rand.New(rand.NewPCG(8, 3))
@@ -77,7 +59,7 @@ func TestOneForm(t *testing.T) {
 		l := sample.Symbols(r.IntN, n, 30)
 		want := mustCheapest(t, l, 30)
 		for range 20 {
-			p := api.Patch{In: 30, Out: n, Ops: anyOps(r.IntN, l)}
+			p := api.Patch{In: 30, Out: n, Ops: sample.AnyOps(r.IntN, l)}
 			if q := mustForm(t, p); !sample.Same(q, want) || !normal.Same(p, want) || !normal.Same(want, p) {
 				t.Fatalf("Form of %v: %v, want %v", p, q, want)
 			}
@@ -91,7 +73,7 @@ func TestJoining(t *testing.T) {
 	for range 3000 {
 		l := sample.Symbols(r.IntN, r.IntN(80), 20)
 		at := r.IntN(len(l) + 1)
-		a, b := anyOps(r.IntN, l[:at]), anyOps(r.IntN, l[at:])
+		a, b := sample.AnyOps(r.IntN, l[:at]), sample.AnyOps(r.IntN, l[at:])
 		whole := mustForm(t, api.Patch{In: 20, Out: len(l), Ops: slices.Concat(a, b)})
 		first := mustForm(t, api.Patch{In: 20, Out: at, Ops: a})
 		last := mustForm(t, api.Patch{In: 20, Out: len(l) - at, Ops: b})

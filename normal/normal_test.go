@@ -38,15 +38,8 @@ func equal(b byte, n int) []api.Symbol {
 	return slices.Repeat(literals(b), n)
 }
 
-func copyOf(from, n int) api.Op { return api.Op{Kind: api.Copy, From: from, Len: n} }
-
-func diff(from int, add ...byte) api.Op {
-	return api.Op{Kind: api.Diff, From: from, Len: len(add), Data: add}
-}
-
-func run(b byte, n int) api.Op { return api.Op{Kind: api.Run, Len: n, B: b} }
-
-func lit(data ...byte) api.Op { return api.Op{Kind: api.Lit, Len: len(data), Data: data} }
+// The operations in tables.
+var copyOf, diff, run, lit = sample.Copy, sample.Diff, sample.Run, sample.Lit
 
 // P8.1 (H1), P8.3: the examples of the chapter, and others that are worked out by hand.
 func TestExamples(t *testing.T) {

@@ -13,36 +13,6 @@ import (
 
 // What follows is written from the chapter alone, the plainest way, so that it is a second opinion.
 
-// operationsOf returns all operations that have the symbols l, of which there is at least one.
-func operationsOf(l []api.Symbol) []api.Op {
-	first, n := l[0], len(l)
-	inOrder, same, unchanged := true, true, true
-	var data []byte
-	for i, s := range l {
-		if s.Old != first.Old {
-			return nil
-		}
-		inOrder = inOrder && s.At == first.At+i
-		same = same && s.B == first.B
-		unchanged = unchanged && s.B == 0
-		data = append(data, s.B)
-	}
-	var ops []api.Op
-	if first.Old && inOrder && unchanged {
-		ops = append(ops, api.Op{Kind: 1, From: first.At, Len: n})
-	}
-	if first.Old && inOrder {
-		ops = append(ops, api.Op{Kind: 2, From: first.At, Len: n, Data: data})
-	}
-	if !first.Old && same {
-		ops = append(ops, api.Op{Kind: 3, Len: n, B: first.B})
-	}
-	if !first.Old {
-		ops = append(ops, api.Op{Kind: 4, Len: n, Data: data})
-	}
-	return ops
-}
-
 // costOf returns the cost of operations.
 func costOf(ops []api.Op) int {
 	cost := 0
@@ -78,7 +48,7 @@ func eachList(before []api.Op, l []api.Symbol, f func(ops []api.Op)) {
 		return
 	}
 	for n := 1; n <= len(l); n++ {
-		for _, o := range operationsOf(l[:n]) {
+		for _, o := range sample.Operations(l[:n]) {
 			eachList(append(slices.Clip(before), o), l[n:], f)
 		}
 	}
@@ -100,7 +70,7 @@ func bestOf(l []api.Symbol) []api.Op {
 	best := make([][]api.Op, len(l)+1)
 	for to := 1; to <= len(l); to++ {
 		for from := range to {
-			for _, o := range operationsOf(l[from:to]) {
+			for _, o := range sample.Operations(l[from:to]) {
 				ops := append(slices.Clip(best[from]), o)
 				if best[to] == nil || isBetter(ops, best[to]) {
 					best[to] = ops
