@@ -107,32 +107,11 @@ func TestCompose(t *testing.T) {
 	})
 }
 
-// shortPatches returns all patches of at most two short operations, for inputs of up to two bytes.
-func shortPatches() []api.Patch {
-	var l []api.Patch
-	for in := range 3 {
-		ops := []api.Op{run(1, 1), run(255, 2), lit(0), lit(1, 255)}
-		for from := range in {
-			for n := 1; from+n <= in; n++ {
-				ops = append(ops, copyOf(from, n), diff(from, []byte{1, 255}[:n]...), diff(from, []byte{255, 1}[:n]...))
-			}
-		}
-		l = append(l, of(in, 0))
-		for _, o := range ops {
-			l = append(l, of(in, o.Len, o))
-			for _, q := range ops {
-				l = append(l, of(in, o.Len+q.Len, o, q))
-			}
-		}
-	}
-	return l
-}
-
 // P9.1 (I2), P9.2, P9.7: all pairs of short patches, those that fit and others.
 func TestComposeShortPatches(t *testing.T) {
 	fit := 0
-	for _, p := range shortPatches() {
-		for _, q := range shortPatches() {
+	for _, p := range sample.ShortPatches() {
+		for _, q := range sample.ShortPatches() {
 			if _, e := check(t, p, q); e == api.OK {
 				fit++
 			}

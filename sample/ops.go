@@ -63,3 +63,31 @@ func AnyOps(choose func(k int) int, l []api.Symbol) []api.Op {
 	}
 	return ops
 }
+
+// ShortPatches returns patches with Lifted false of at most two short operations, for inputs of up to two bytes: all
+// pairs of these operations.
+func ShortPatches() []api.Patch {
+	var l []api.Patch
+	for in := range 3 {
+		ops := shortOps(in)
+		l = append(l, api.Patch{In: in})
+		for _, o := range ops {
+			l = append(l, api.Patch{In: in, Out: o.Len, Ops: []api.Op{o}})
+			for _, q := range ops {
+				l = append(l, api.Patch{In: in, Out: o.Len + q.Len, Ops: []api.Op{o, q}})
+			}
+		}
+	}
+	return l
+}
+
+// shortOps returns right operations of one or two bytes for inputs of in bytes, of all kinds and places.
+func shortOps(in int) []api.Op {
+	ops := []api.Op{Run(1, 1), Run(255, 2), Lit(0), Lit(1, 255)}
+	for from := range in {
+		for n := 1; from+n <= in; n++ {
+			ops = append(ops, Copy(from, n), Diff(from, []byte{1, 255}[:n]...), Diff(from, []byte{255, 1}[:n]...))
+		}
+	}
+	return ops
+}

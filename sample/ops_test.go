@@ -6,6 +6,7 @@ import (
 	"testing"
 
 	"inlay/api"
+	"inlay/patch"
 	"inlay/sample"
 )
 
@@ -57,6 +58,26 @@ func TestAnyOps(t *testing.T) {
 			if n > 0 && !seen[[2]int{kind, n}] {
 				t.Errorf("no operation of the kind %d has %d bytes", kind, n)
 			}
+		}
+	}
+}
+
+// They are right and different, and there is each pair of operations.
+func TestShortPatches(t *testing.T) {
+	seen := map[int]int{}
+	l := sample.ShortPatches()
+	for i, p := range l {
+		if n, e := patch.Check(p); e != api.OK || p.Lifted {
+			t.Fatalf("not right at %d: %v", n, p)
+		}
+		if slices.ContainsFunc(l[:i], func(q api.Patch) bool { return sample.Same(p, q) }) {
+			t.Fatalf("%v is there twice", p)
+		}
+		seen[p.In]++
+	}
+	for in, ops := range []int{4, 7, 13} {
+		if want := 1 + ops + ops*ops; seen[in] != want {
+			t.Errorf("%d patches for %d bytes, want %d", seen[in], in, want)
 		}
 	}
 }
