@@ -49,7 +49,7 @@ func TestAllOfLists(t *testing.T) {
 			if e != api.OK {
 				return
 			}
-			b := inputOf(all.In, func(int) int { return r.IntN(256) })
+			b := sample.Bytes(all.In, func(int) int { return r.IntN(256) })
 			all.Lifted = false
 			got := sample.Must(patch.Apply(b, all))
 			for _, p := range l {

@@ -18,14 +18,8 @@ import (
 // The operations in tables.
 var copyOf, diff, run, lit = sample.Copy, sample.Diff, sample.Run, sample.Lit
 
-// of returns a patch of operations.
-func of(in, out int, ops ...api.Op) api.Patch { return api.Patch{In: in, Out: out, Ops: ops} }
-
-// lifted returns p as a patch of lifted code.
-func lifted(p api.Patch) api.Patch {
-	p.Lifted = true
-	return p
-}
+// Patches of them.
+var of, lifted = sample.Of, sample.Lifted
 
 // P9.1 (I2), P9.2: the examples of the chapter, and others that are worked out by hand.
 func TestExamples(t *testing.T) {
@@ -99,7 +93,7 @@ func TestCompose(t *testing.T) {
 		if e != api.OK {
 			return
 		}
-		input := inputOf(p.In, func(int) int { return r.IntN(256) })
+		input := sample.Bytes(p.In, func(int) int { return r.IntN(256) })
 		isLifted := both.Lifted
 		if both.Lifted = false; !bytes.Equal(sample.Must(patch.Apply(input, both)), inTurn(input, p, q)) || isLifted != p.Lifted {
 			t.Fatalf("%v and %v: %v, which makes other bytes, or is of another kind", p, q, both)
@@ -187,7 +181,7 @@ func TestNeutral(t *testing.T) {
 
 // manyRuns returns a Lit whose form is n runs.
 func manyRuns(n int) api.Patch {
-	return of(0, 10*n, lit(inputOf(10*n, func(i int) int { return i / 10 % 2 })...))
+	return of(0, 10*n, lit(sample.Bytes(10*n, func(i int) int { return i / 10 % 2 })...))
 }
 
 // P9.5: other operations with the same symbols, and the least cost.
@@ -226,12 +220,7 @@ func TestAddedAndTakenAway(t *testing.T) {
 // P9.7: all pairs of what is wrong, in the order of errors; P1.
 func TestRefusals(t *testing.T) {
 	fits, short, code := of(3, 3, copyOf(0, 3)), of(2, 3, run(1, 3)), lifted(of(3, 3, copyOf(0, 3)))
-	wrong := []api.Patch{
-		of(3, 2), of(3, 3, copyOf(1, 3)), of(3, 3, copyOf(0, 2)), of(-1, 3, run(1, 3)), of(65537, 3, run(1, 3)), of(3, 65537, run(1, 65536), run(1, 1)),
-		of(3, -1), of(3, 3, api.Op{Len: 3}), of(3, 3, api.Op{Kind: 5, Len: 3}), of(3, 3, api.Op{Kind: api.Lit, Len: 3, Data: []byte{1}}),
-		of(3, 0, api.Op{Kind: api.Run}), of(1, 4097, slices.Repeat([]api.Op{copyOf(0, 1)}, 4097)...), of(3, 3, api.Op{Kind: api.Copy, From: 1 << 62, Len: 3}),
-		lifted(of(3, 2)), lifted(of(2, 3)),
-	}
+	wrong := append(sample.WrongPatches(), lifted(of(3, 2)), lifted(of(2, 3)))
 	for what, c := range map[string]struct {
 		p, q api.Patch
 		want api.Errno
@@ -325,20 +314,14 @@ func TestComposeModifiesNothing(t *testing.T) {
 		func() (api.Patch, api.Errno) { return compose.All([]api.Patch{p, q}) },
 		func() (api.Patch, api.Errno) { return compose.All([]api.Patch{p}) },
 	} {
-		want := sample.Clone(sample.Must(f()))
-		if len(want.Ops) < 5 {
-			t.Fatalf("%v has too few operations", want)
+		if got := sample.Must(f()); len(got.Ops) < 5 {
+			t.Fatalf("%v has too few operations", got)
 		}
-		for i := range want.Ops {
-			got := sample.Must(f())
-			data := got.Ops[i].Data
-			clear(data[:cap(data)])
-			got.Ops[i] = sample.Clone(want).Ops[i]
-			clear(got.Ops[len(got.Ops):cap(got.Ops)])
-			if !sample.Same(got, want) || !sample.Same(p, beforeP) || !sample.Same(q, beforeQ) {
-				t.Fatalf("with the data of the operation %d changed: %v of %v and %v", i, got, p, q)
-			}
-			clear(got.Ops)
+		if !sample.OwnMemory(func() []api.Patch { return []api.Patch{sample.Must(f())} }) {
+			t.Errorf("of %v and %v: the memory is shared", p, q)
+		}
+		if !sample.Same(p, beforeP) || !sample.Same(q, beforeQ) {
+			t.Errorf("the arguments have changed to %v and %v", p, q)
 		}
 	}
 }

@@ -13,15 +13,6 @@ import (
 
 // What follows is written from the chapter alone, the plainest way, so that it is a second opinion.
 
-// inputOf returns n bytes, of which f tells each by its place.
-func inputOf(n int, f func(i int) int) []byte {
-	b := make([]byte, n)
-	for i := range b {
-		b[i] = byte(f(i))
-	}
-	return b
-}
-
 // inTurn returns what q makes of what p makes of the input, as if Lifted were false.
 func inTurn(old []byte, p, q api.Patch) []byte {
 	p.Lifted, q.Lifted = false, false
@@ -30,16 +21,7 @@ func inTurn(old []byte, p, q api.Patch) []byte {
 
 // symbolsOf returns the symbols of p and q in turn, told only by what they make of four inputs.
 func symbolsOf(p, q api.Patch) []api.Symbol {
-	zeros := inTurn(inputOf(p.In, func(i int) int { return 0 }), p, q)
-	ones := inTurn(inputOf(p.In, func(i int) int { return 1 }), p, q)
-	low := inTurn(inputOf(p.In, func(i int) int { return i }), p, q)
-	high := inTurn(inputOf(p.In, func(i int) int { return i / 256 }), p, q)
-	var l []api.Symbol
-	for i, b := range zeros {
-		at := int(low[i]-b) + 256*int(high[i]-b)
-		l = append(l, api.Symbol{Old: ones[i] != b, At: at, B: b})
-	}
-	return l
+	return sample.Told(p.In, func(old []byte) []byte { return inTurn(old, p, q) })
 }
 
 // composeOf returns what Compose has to return.

@@ -67,7 +67,7 @@ func TestThroughMakes(t *testing.T) {
 			}
 			continue
 		}
-		input := inputOf(in, func(i int) int { return 37*i + 11 })
+		input := sample.Bytes(in, func(i int) int { return 37*i + 11 })
 		want := sample.Must(patch.Run(sample.Must(patch.Run(input, a)), b))
 		if e != api.OK || len(l) != n || !bytes.Equal(sample.Must(patch.Run(input, l)), want) {
 			t.Fatalf("%v through %v: %v, error %d", b, a, l, e)

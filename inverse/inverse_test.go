@@ -17,14 +17,8 @@ import (
 // The operations in tables.
 var copyOf, diff, run, lit = sample.Copy, sample.Diff, sample.Run, sample.Lit
 
-// of returns a patch of operations.
-func of(in, out int, ops ...api.Op) api.Patch { return api.Patch{In: in, Out: out, Ops: ops} }
-
-// lifted returns p as a patch of lifted code.
-func lifted(p api.Patch) api.Patch {
-	p.Lifted = true
-	return p
-}
+// Patches of them.
+var of, lifted = sample.Of, sample.Lifted
 
 // P10.1 (J1, J2): the example of the chapter, and others that are worked out by hand.
 func TestExamples(t *testing.T) {
@@ -165,19 +159,9 @@ func TestPatches(t *testing.T) {
 	eachLifted(compare)
 }
 
-// wrongPatches returns patches that are not right.
-func wrongPatches() []api.Patch {
-	return []api.Patch{
-		of(3, 2), of(3, 4, copyOf(0, 3)), of(3, 2, copyOf(0, 3)), of(3, 3, copyOf(1, 3)), of(-1, 3, run(1, 3)), of(65537, 3, run(1, 3)), of(3, 65537, run(1, 65536), run(1, 1)),
-		of(3, -1), of(3, 3, api.Op{Len: 3}), of(3, 3, api.Op{Kind: 5, Len: 3}), of(3, 3, api.Op{Kind: api.Lit, Len: 3, Data: []byte{1}}), of(1<<62, 0), of(0, 1<<62),
-		of(3, 0, api.Op{Kind: api.Run}), of(3, 4097, slices.Repeat([]api.Op{copyOf(0, 1)}, 4097)...), of(3, 3, api.Op{Kind: api.Copy, From: 1 << 62, Len: 3}),
-		of(3, 3, api.Op{Kind: api.Copy, From: -1, Len: 3}), of(3, 3, api.Op{Kind: api.Copy, Len: 3, B: 1}),
-	}
-}
-
 // P10.1 (J1), P1: patches that are not right, for images that fit them, and others.
 func TestWrongPatches(t *testing.T) {
-	for _, p := range wrongPatches() {
+	for _, p := range sample.WrongPatches() {
 		for _, p := range []api.Patch{p, lifted(p)} {
 			for _, old := range [][]byte{nil, {1, 2, 3}, {1, 2, 3, 4}, make([]byte, 65536), make([]byte, 65537)} {
 				if got, e := check(t, old, p); e != api.ErrOp || !sample.Same(got, api.Patch{}) {
@@ -267,22 +251,19 @@ func TestNothingIsModified(t *testing.T) {
 		{code, lifted(of(15, 15, lit(0, 2, 0, 1), copyOf(4, 7), diff(11, 1), copyOf(12, 1), lit(8, 9)))},
 	} {
 		old, p := bytes.Clone(c.old), sample.Clone(c.p)
-		want := sample.Clone(mustInvert(t, c.old, c.p))
+		want := mustInvert(t, c.old, c.p)
 		lost := slices.Clone(checkLost(t, c.p))
 		if len(want.Ops) < 4 || len(lost) < 2 {
 			t.Fatalf("the inverse %v has too few operations, or too little is lost: %v", want, lost)
 		}
-		for i := range want.Ops {
-			got := mustInvert(t, c.old, c.p)
-			data := got.Ops[i].Data
-			clear(data[:cap(data)])
-			got.Ops[i] = sample.Clone(want).Ops[i]
-			clear(got.Ops[len(got.Ops):cap(got.Ops)])
+		if !sample.OwnMemory(func() []api.Patch { return []api.Patch{mustInvert(t, c.old, c.p)} }) {
+			t.Errorf("of %x, %v: the memory is shared", c.old, c.p)
+		}
+		for range 2 {
 			l, _ := inverse.Lost(c.p)
-			if !sample.Same(got, want) || !slices.Equal(l, lost) || !sample.Same(c.p, p) || !bytes.Equal(c.old, old) {
-				t.Fatalf("with the data of the operation %d changed: %v, and %v is lost, of %x, %v", i, got, l, c.old, c.p)
+			if !slices.Equal(l, lost) || !sample.Same(c.p, p) || !bytes.Equal(c.old, old) {
+				t.Fatalf("%v is lost, of %x, %v", l, c.old, c.p)
 			}
-			clear(got.Ops)
 			clear(l[:cap(l)])
 		}
 	}

@@ -287,17 +287,14 @@ func TestNothingIsModified(t *testing.T) {
 		func() (api.Patch, api.Errno) { return normal.Form(want) },
 		func() (api.Patch, api.Errno) { return normal.Cheapest(l, 20) },
 	} {
-		form := sample.Clone(want)
-		for i := range form.Ops {
-			q, _ := f()
-			data := q.Ops[i].Data
-			clear(data[:cap(data)])
-			q.Ops[i] = form.Ops[i]
-			clear(q.Ops[len(q.Ops):cap(q.Ops)])
-			if !sample.Same(q, form) || !sample.Same(p, before) || !sample.Same(want, form) || !slices.Equal(l, symbolsOf(before)) || !normal.Same(p, want) {
-				t.Fatalf("with the data of the operation %d changed: %v of %v", i, q, p)
-			}
-			clear(q.Ops)
+		if q, e := f(); e != api.OK || !sample.Same(q, want) {
+			t.Errorf("%v, error %d, want %v", q, e, want)
+		}
+		if !sample.OwnMemory(func() []api.Patch { return []api.Patch{sample.Must(f())} }) {
+			t.Errorf("of %v: the memory is shared", p)
+		}
+		if !sample.Same(p, before) || !slices.Equal(l, symbolsOf(before)) || !normal.Same(p, want) {
+			t.Errorf("the arguments have changed to %v and %v", p, l)
 		}
 	}
 }

@@ -1,4 +1,5 @@
-// Package sample makes inputs for the tests of the packages, which share it. The program does not use it.
+// Package sample has what the tests of several packages share: inputs, and ways to check results. The program does not
+// use it.
 package sample
 
 import (
