@@ -180,9 +180,7 @@ func TestNeutral(t *testing.T) {
 }
 
 // manyRuns returns a Lit whose form is n runs.
-func manyRuns(n int) api.Patch {
-	return of(0, 10*n, lit(sample.Bytes(10*n, func(i int) int { return i / 10 % 2 })...))
-}
+func manyRuns(n int) api.Patch { return of(0, 10*n, sample.Runs(n)) }
 
 // P9.5: other operations with the same symbols, and the least cost.
 func TestLeast(t *testing.T) {

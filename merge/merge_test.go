@@ -1,7 +1,6 @@
 package merge_test
 
 import (
-	"bytes"
 	"math/rand/v2"
 	"slices"
 	"testing"
@@ -284,17 +283,12 @@ func every(k, first, step int) []int {
 	return l
 }
 
-// inTurn returns n times ten bytes 0 and ten bytes 1: the form of a Lit of them has 2 n runs.
-func inTurn(n int) []byte {
-	return bytes.Repeat(slices.Concat(make([]byte, 10), bytes.Repeat([]byte{1}, 10)), n)
-}
-
 // spaced returns two patches: one that puts n times ten bytes 0 and ten bytes 1, of which each is a Lit and has a place
 // after it, and one that puts the byte 1 at these places.
 func spaced(n int) (api.Patch, api.Patch) {
 	var p, q []api.Op
 	for i := range n {
-		p = append(p, lit(inTurn(1)...), copyOf(21*i+20, 1))
+		p = append(p, sample.Runs(2), copyOf(21*i+20, 1))
 		q = append(q, copyOf(21*i, 20), lit(1))
 	}
 	return even(p...), even(q...)
@@ -307,7 +301,7 @@ func TestLimitsOfOperations(t *testing.T) {
 	first, last := dotted(n, dots[:1024]...), dotted(n, dots[1024:]...)
 	some, others := dotted(n, every(2040, 15, 32)...), dotted(n, every(2040, 31, 32)...)
 	clash := even(append([]api.Op{copyOf(0, 15), lit(8), copyOf(16, 15)}, others.Ops[1:]...)...)
-	most, big := even(lit(inTurn(2048)...)), even(lit(inTurn(2049)...))
+	most, big := even(sample.Runs(4096)), even(sample.Runs(4098))
 	gaps, filled := spaced(2048)
 	for what, c := range map[string]struct {
 		p, q   api.Patch

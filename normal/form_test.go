@@ -232,13 +232,6 @@ func runs(n int) []api.Symbol {
 
 // P8.8, P8.1 (H2), P1: a patch that is right may have a form with too many operations.
 func TestErrorsOfForm(t *testing.T) {
-	data := func(n int) []byte {
-		var b []byte
-		for _, s := range runs(n) {
-			b = append(b, s.B)
-		}
-		return b
-	}
 	for what, c := range map[string]struct {
 		p    api.Patch
 		want api.Errno
@@ -256,10 +249,10 @@ func TestErrorsOfForm(t *testing.T) {
 		"a kind that there is not":         {api.Patch{In: 3, Out: 1, Ops: []api.Op{{Len: 1}}}, api.ErrOp},
 		"the most operations":              {api.Patch{In: 1, Out: 4096, Ops: slices.Repeat([]api.Op{copyOf(0, 1)}, 4096)}, api.OK},
 		"one operation more":               {api.Patch{In: 1, Out: 4097, Ops: slices.Repeat([]api.Op{copyOf(0, 1)}, 4097)}, api.ErrOp},
-		"one that is split into the most":  {api.Patch{Out: 40960, Ops: []api.Op{lit(data(4096)...)}}, api.OK},
-		"one that is split into one more":  {api.Patch{Out: 40970, Ops: []api.Op{lit(data(4097)...)}}, api.ErrBig},
-		"the same of lifted code":          {api.Patch{Lifted: true, In: 4, Out: 40970, Ops: []api.Op{lit(data(4097)...)}}, api.ErrBig},
-		"the same, and the output is less": {api.Patch{Out: 40969, Ops: []api.Op{lit(data(4097)...)}}, api.ErrOp},
+		"one that is split into the most":  {api.Patch{Out: 40960, Ops: []api.Op{sample.Runs(4096)}}, api.OK},
+		"one that is split into one more":  {api.Patch{Out: 40970, Ops: []api.Op{sample.Runs(4097)}}, api.ErrBig},
+		"the same of lifted code":          {api.Patch{Lifted: true, In: 4, Out: 40970, Ops: []api.Op{sample.Runs(4097)}}, api.ErrBig},
+		"the same, and the output is less": {api.Patch{Out: 40969, Ops: []api.Op{sample.Runs(4097)}}, api.ErrOp},
 	} {
 		q, e := normal.Form(c.p)
 		if e != c.want || e != api.OK && !sample.Same(q, api.Patch{}) {

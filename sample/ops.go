@@ -16,6 +16,11 @@ func Run(b byte, n int) api.Op { return api.Op{Kind: api.Run, Len: n, B: b} }
 // Lit returns the Lit of these bytes.
 func Lit(data ...byte) api.Op { return api.Op{Kind: api.Lit, Len: len(data), Data: data} }
 
+// Runs returns a Lit of 10 n bytes, for which n Runs are the cheapest operations.
+func Runs(n int) api.Op {
+	return Lit(Bytes(10*n, func(i int) int { return i / 10 % 2 })...)
+}
+
 // Operations returns all operations that have the symbols l, of which there is at least one.
 func Operations(l []api.Symbol) []api.Op {
 	first, n := l[0], len(l)

@@ -6,6 +6,7 @@ import (
 	"testing"
 
 	"inlay/api"
+	"inlay/normal"
 	"inlay/patch"
 	"inlay/sample"
 )
@@ -28,6 +29,16 @@ func TestOperations(t *testing.T) {
 	} {
 		if got := sample.Operations(c.l); !sample.SameOps(got, c.want) {
 			t.Errorf("%d: %v, want %v", i, got, c.want)
+		}
+	}
+}
+
+func TestRuns(t *testing.T) {
+	for _, n := range []int{1, 2, 3, 4096} {
+		p := sample.Must(normal.Form(sample.Of(0, 10*n, sample.Runs(n))))
+		isOther := func(o api.Op) bool { return o.Kind != api.Run || o.Len != 10 }
+		if len(p.Ops) != n || slices.ContainsFunc(p.Ops, isOther) {
+			t.Errorf("%d runs: %v", n, p)
 		}
 	}
 }
